@@ -1,0 +1,1 @@
+"""Benchdeal: seats dealt by votes, and prices that show that it is right."""

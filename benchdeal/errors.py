@@ -1,0 +1,1 @@
+"""The errors of Benchdeal: none, as nothing is refused."""
