@@ -35,6 +35,15 @@ METHODS = (
     "items join keys ljust lower lstrip partition pop remove replace reverse rfind rjust rpartition rsplit rstrip "
     "setdefault split splitlines startswith strip update upper values zfill bit_length"
 ).split()
+CHANGING_METHODS = ("append", "clear", "extend", "insert", "pop", "remove", "reverse", "setdefault", "update")
+WALKS = ("zip", "enumerate", "reversed", "range")
+WALK_METHODS = ("items", "keys", "values")
+WALKERS = ("list", "tuple", "dict", "sorted", "sum", "any", "all", "enumerate", "zip")
+KEYWORDS = {
+    "sorted": ("key", "reverse"), "min": ("key", "default"), "max": ("key", "default"), "sum": ("start",),
+    "enumerate": ("start",), "zip": ("strict",),
+}
+KEYS = ("len", "int", "str", "abs", "sum", "min", "max", "tuple")
 OWN_UNDERSCORED = ("__init__", "__eq__", "__repr__", "__str__", "__len__", "__all__", "__version__")
 
 NODES = (
@@ -250,6 +259,120 @@ def statement_rule(node):
     return None
 
 
+def called_name(node):
+    """The plain name that a node calls, or None."""
+    return node.func.id if isinstance(node, ast.Call) and isinstance(node.func, ast.Name) else None
+
+
+def called_method(node):
+    """The method that a node calls, or None."""
+    return node.func.attr if isinstance(node, ast.Call) and isinstance(node.func, ast.Attribute) else None
+
+
+def parents_of(tree):
+    return {child: node for node in ast.walk(tree) for child in ast.iter_child_nodes(node)}
+
+
+def is_kept_class(node, parents):
+    """Whether a class of Python's own stands elsewhere than by isinstance, except, raise or as a base."""
+    parent = parents[node]
+    if isinstance(parent, ast.Tuple):
+        node, parent = parent, parents[parent]
+    if isinstance(parent, (ast.ExceptHandler, ast.Raise, ast.ClassDef)):
+        return False
+    return not (called_name(parent) == "isinstance" and node in parent.args[1:])
+
+
+def own_name_rule(node, parents):
+    """L22: names of Python's own are called, not kept."""
+    if not isinstance(node, ast.Name) or node.id not in BUILTIN_NAMES or not isinstance(node.ctx, ast.Load):
+        return None
+    parent = parents[node]
+    if isinstance(parent, ast.Call) and parent.func is node:
+        return None
+    if isinstance(parent, ast.keyword) and parent.arg == "key" and node.id in KEYS:
+        return None
+    return "L22" if is_kept_class(node, parents) else None
+
+
+def keyword_rule(node):
+    """L22: the keywords that Python's own are called with."""
+    if not isinstance(node, ast.Call):
+        return None
+    used = [keyword.arg for keyword in node.keywords]
+    own = called_name(node) in BUILTIN_NAMES or called_method(node) in METHODS
+    wrong = [word for word in used if own and word not in KEYWORDS.get(called_name(node), ())]
+    for keyword in node.keywords:
+        if own and keyword.arg in ("reverse", "strict") and ast.unparse(keyword.value) not in ("True", "False"):
+            wrong.append(keyword.arg)
+    return "L22" if wrong else None
+
+
+def is_walk(node):
+    return called_name(node) in WALKS or called_method(node) in WALK_METHODS
+
+
+def is_walked_at_once(node, parent):
+    if isinstance(parent, (ast.For, ast.comprehension)):
+        return parent.iter is node
+    if not isinstance(parent, ast.Call) or node not in parent.args[:1]:
+        return False
+    if called_name(parent) in ("min", "max"):
+        return len(parent.args) == 1
+    if called_method(parent) == "join":
+        return isinstance(parent.func.value, ast.Constant)
+    return called_name(parent) in WALKERS
+
+
+def walked_names(node):
+    """The names of what a loop walks, itself or through a walk."""
+    if isinstance(node, ast.Name):
+        return [node.id]
+    if called_method(node) in WALK_METHODS:
+        return walked_names(node.func.value)
+    if called_name(node) in ("zip", "enumerate", "reversed"):
+        return [name for part in node.args for name in walked_names(part)]
+    return []
+
+
+def changed_name(node):
+    """The name whose value a node changes, or None."""
+    place = None
+    if isinstance(node, ast.Subscript) and isinstance(node.ctx, ast.Store):
+        place = node.value
+    elif isinstance(node, ast.AugAssign):
+        place = node.target
+    elif called_method(node) in CHANGING_METHODS:
+        place = node.func.value
+    return place.id if isinstance(place, ast.Name) else None
+
+
+def walk_rule(node, parents):
+    """L23: walks are walked at once, and a loop does not change what it walks."""
+    if is_walk(node) and not is_walked_at_once(node, parents[node]):
+        return "L23"
+    if isinstance(node, ast.For):
+        changed = [changed_name(part) for row in node.body for part in ast.walk(row)]
+        if set(walked_names(node.iter)) & set(changed):
+            return "L23"
+    return None
+
+
+def local_faults(path, tree):
+    """L15: locals and parameters called like a class or an import of their file."""
+    taken = [node.name for node in tree.body if isinstance(node, ast.ClassDef)]
+    for node in tree.body:
+        if isinstance(node, ast.ImportFrom):
+            taken += [alias.asname or alias.name for alias in node.names]
+    faults = []
+    for function in [node for node in ast.walk(tree) if isinstance(node, (ast.FunctionDef, ast.Lambda))]:
+        for node in ast.walk(function):
+            binds = isinstance(node, ast.arg) or (isinstance(node, ast.Name) and isinstance(node.ctx, ast.Store))
+            if binds and spelled_names(node)[0] in taken:
+                faults.append(f"L15 {path}:{node.lineno}: {spelled_names(node)[0]}")
+    return faults
+
+
 def methods_of(tree):
     return [
         part
@@ -261,8 +384,10 @@ def methods_of(tree):
 def node_faults(path, tree, method_names):
     faults = []
     methods = methods_of(tree)
+    parents = parents_of(tree)
     for node in ast.walk(tree):
-        rules = [expression_rule(node), statement_rule(node)]
+        rules = [expression_rule(node), statement_rule(node), keyword_rule(node)]
+        rules += [own_name_rule(node, parents), walk_rule(node, parents)]
         if not isinstance(node, NODES + (ast.Import,)):
             rules.append("L6/L7")
         if isinstance(node, (ast.FunctionDef, ast.Lambda)):
@@ -291,19 +416,24 @@ def drawn_from(path, tree, files):
     return [one for one in drawn if one in files and one != path]
 
 
-def ring_faults(drawn):
-    faults = []
+def in_rings(drawn):
+    """Those that draw from themselves, in whatever many steps."""
+    found = []
     for start in drawn:
         reached = []
         ahead = list(drawn[start])
         while ahead:
-            path = ahead.pop()
-            if path not in reached:
-                reached.append(path)
-                ahead += drawn[path]
+            one = ahead.pop()
+            if one not in reached:
+                reached.append(one)
+                ahead += drawn.get(one, [])
         if start in reached:
-            faults.append(f"L16 {start}: draws from itself, in whatever many steps")
-    return faults
+            found.append(start)
+    return found
+
+
+def ring_faults(drawn):
+    return [f"L16 {path}: draws from itself, in whatever many steps" for path in in_rings(drawn)]
 
 
 def folder_faults(files):
@@ -324,4 +454,40 @@ def faults_of(files):
     method_names = [method.name for tree in trees.values() for method in methods_of(tree)]
     for path, tree in trees.items():
         faults += import_faults(path, tree) + top_faults(path, tree) + node_faults(path, tree, method_names)
+        faults += local_faults(path, tree)
     return faults + ring_faults({path: drawn_from(path, tree, files) for path, tree in trees.items()})
+
+
+# What the package does without; the rules behind it then hold of themselves.
+DONE_WITHOUT = (
+    ("L5 L18 L26 L28", (ast.ClassDef,)),
+    ("L13", (ast.Lambda,)),
+    ("L7 L11 L13 L24", (ast.Set,)),
+    ("L19", (ast.Try, ast.Raise)),
+)
+
+
+def is_kept_at_top(node):
+    """Whether it gives a name of a file's top a list or dict."""
+    return isinstance(node, ast.Assign) and any(isinstance(part, (ast.List, ast.Dict)) for part in ast.walk(node.value))
+
+
+def calls_of(trees):
+    """The names that each function of a package calls."""
+    functions = [node for tree in trees for node in ast.walk(tree) if isinstance(node, ast.FunctionDef)]
+    return {function.name: [called_name(node) for node in ast.walk(function)] for function in functions}
+
+
+def needless_of(files):
+    """What a package holds that it could do without: the rules of it are not looked at one by one."""
+    trees = {path: ast.parse(text) for path, text in files.items()}
+    told = [f"L11: {name} calls itself, in whatever many steps" for name in in_rings(calls_of(trees.values()))]
+    for path, tree in trees.items():
+        told += [f"L15 {path}:{node.lineno}: a list or dict is kept" for node in tree.body if is_kept_at_top(node)]
+        for node in ast.walk(tree):
+            if called_name(node) in ("set", "frozenset"):
+                told.append(f"L24 {path}:{node.lineno}")
+            if isinstance(node, ast.FunctionDef) and node not in tree.body:
+                told.append(f"L4 {path}:{node.lineno}: a def within a def or a class")
+            told += [f"{rules} {path}:{node.lineno}" for rules, kinds in DONE_WITHOUT if isinstance(node, kinds)]
+    return told

@@ -3,7 +3,7 @@
 import pathlib
 import unittest
 
-from language_rules import PACKAGE, faults_of
+from language_rules import PACKAGE, faults_of, needless_of
 
 FOLDER = pathlib.Path(__file__).resolve().parent.parent / PACKAGE
 
@@ -45,6 +45,9 @@ WRONG_TEXTS = (
     ("L15", "A = 1\nA = 2\n"),
     ("L15", "def f(min):\n    return min\n"),
     ("L15", "def f():\n    class A:\n        pass\n"),
+    ("L15", "from benchdeal.things import are_votes\n\n\ndef f(are_votes):\n    return are_votes\n"),
+    ("L15", "from benchdeal.things import are_votes\n\n\ndef f(x):\n    are_votes = x\n    return are_votes\n"),
+    ("L15", "class A:\n    pass\n\n\ndef f(A):\n    return A\n"),
     ("L4", "def f(*xs):\n    return xs\n"),
     ("L4", "def f(**xs):\n    return xs\n"),
     ("L4", "def f(x, *, y):\n    return x\n"),
@@ -79,8 +82,37 @@ WRONG_TEXTS = (
     ("L20", "def f(x):\n    return x is f\n"),
     ("L20", "def f(x):\n    return x is 1\n"),
     ("L21", "def f(x: int):\n    return x\n"),
+    ("L22", "def f(x):\n    y = len\n    return y(x)\n"),
+    ("L22", "def f(x):\n    return [int, str]\n"),
+    ("L22", "def f(x):\n    return sorted(x, key=repr)\n"),
+    ("L22", "def f(x):\n    return sorted(x, reverse=x)\n"),
+    ("L22", "def f(x):\n    return int(x, base=2)\n"),
+    ("L22", "def f(x):\n    return x.split(sep=x)\n"),
+    ("L23", "def f(x):\n    y = range(x)\n    return y\n"),
+    ("L23", "def f(x):\n    return 1 in range(x)\n"),
+    ("L23", "def f(x):\n    return min(range(x), 1)\n"),
+    ("L23", "def f(x):\n    return x.items()\n"),
+    ("L23", "def f(xs):\n    for x in xs:\n        xs.append(x)\n"),
+    ("L23", "def f(xs):\n    for k, x in enumerate(xs):\n        xs[k] = 1\n"),
+    ("L23", "def f(d):\n    for k, x in d.items():\n        d[k] += 1\n"),
+    ("L23", "def f(xs):\n    for x in xs:\n        xs += [x]\n"),
     ("L25", "def f(x):\n    return x.sort()\n"),
     ("L27", "A = \"5 %\"\n"),
+)
+
+# What a package could do without, and what its rules are.
+NEEDLESS_TEXTS = (
+    ("L4", "def f(x):\n    def g(y):\n        return y\n    return g(x)\n"),
+    ("L5", "class A:\n    pass\n"),
+    ("L11", "def f(x):\n    return f(x - 1) if x else 0\n"),
+    ("L11", "def f(x):\n    return g(x)\n\n\ndef g(x):\n    return f(x)\n"),
+    ("L13", "def f(x):\n    return sorted(x, key=lambda y: y)\n"),
+    ("L15", "A = [1]\n"),
+    ("L15", "A = ({1: 2}, 3)\n"),
+    ("L19", "def f(x):\n    raise ValueError(x)\n"),
+    ("L19", "def f(x):\n    try:\n        return int(x)\n    except ValueError:\n        return 0\n"),
+    ("L24", "def f(x):\n    return x in {1, 2}\n"),
+    ("L24", "def f(x):\n    return set(x)\n"),
 )
 
 RIGHT_TEXTS = (
@@ -92,6 +124,10 @@ RIGHT_TEXTS = (
     "# x\n" * 400,
     "def f(x):\n    return [y for y in x if y is not None]\n",
     "def f(x):\n    return f\"{x} {x!r}\"\n",
+    "def f(x):\n    return isinstance(x, int) or isinstance(x, (str, tuple))\n",
+    "def f(x):\n    return sorted(x, key=len, reverse=True)\n",
+    "def f(x):\n    return tuple([y for y in range(x)]) + tuple(range(x))\n",
+    "def f(x):\n    y = []\n    for k in range(x):\n        y.append(k)\n    return min(range(x))\n",
     "class A:\n    def __init__(self, x):\n        self.x = x\n\n    def twice(self):\n        return 2 * self.x\n",
 )
 
@@ -105,8 +141,16 @@ class LanguageTest(unittest.TestCase):
         self.assertEqual(faults_of(package_files()), [])
 
     def test_package_has_its_files(self):
-        for path in ("__init__.py", "errors.py", "things.py"):
+        for path in ("__init__.py", "errors.py", "things.py", "dealing.py", "pricing.py", "changing.py"):
             self.assertIn(path, package_files())
+
+    def test_package_does_without_what_it_could(self):
+        self.assertEqual(needless_of(package_files()), [])
+
+    def test_needless_texts_are_told(self):
+        for rule, text in NEEDLESS_TEXTS:
+            with self.subTest(text=text):
+                self.assertIn(rule, " ".join(needless_of({"x.py": text})).replace(":", " ").split())
 
     def test_wrong_files_are_told(self):
         for rule, path, text in WRONG_FILES:

@@ -1,10 +1,8 @@
 """Promises 0.3, 0.4 and 1.1: what votes, a scale and given seats are."""
 
 import copy
-import inspect
 import unittest
 
-from benchdeal import errors, things
 from benchdeal.things import are_given, are_votes, is_scale
 
 # Each is no whole number within any bounds, though some of them equal one or hold one.
@@ -193,20 +191,6 @@ class GivenTest(Asking):
         for votes in ((0, 0), (1,) * 9, (1000001, 2)):
             self.assert_all_told(True, are_given, [(4,) * len(votes)], votes)
             self.assert_all_told(False, are_given, [(4,) * (len(votes) + 1)], votes)
-
-
-class InterfaceTest(unittest.TestCase):
-    def parameters(self, function):
-        return tuple(inspect.signature(function).parameters)
-
-    def test_names_and_arguments(self):
-        self.assertEqual(self.parameters(things.are_votes), ("thing",))
-        self.assertEqual(self.parameters(things.is_scale), ("thing",))
-        self.assertEqual(self.parameters(things.are_given), ("thing", "votes"))
-
-    def test_nothing_is_refused(self):
-        refusals = [name for name, value in vars(errors).items() if inspect.isclass(value)]
-        self.assertEqual(refusals, [])
 
 
 if __name__ == "__main__":
